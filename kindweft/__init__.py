@@ -1,0 +1,1 @@
+"""Kindweft: sayings of how things stand, woven over a table of kinds."""
