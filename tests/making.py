@@ -1,4 +1,6 @@
-"""Parts of tables for the tests, as lists that each call makes anew."""
+"""Parts of tables for the tests, as lists that each call makes anew, and books over tables."""
+
+from kindweft.book import Book
 
 LETTERS = "abcdefghijklmnopqrstuvwxyz"
 
@@ -38,3 +40,64 @@ def loose():
             [[], ["b"], ["same"]],
         ],
     ]
+
+
+def pentagon():
+    """Beside same two colours of which no three things have one alone: no six things can all be unlike."""
+    return [
+        ["red", "same", "blue"],
+        "same",
+        ["red", "same", "blue"],
+        [
+            [["same", "blue"], ["red"], ["red", "blue"]],
+            [["red"], ["same"], ["blue"]],
+            [["red", "blue"], ["blue"], ["red", "same"]],
+        ],
+    ]
+
+
+def triangle():
+    """The turns of a triangle and its flips: a lawful table in which the order of a step matters."""
+    turns = {
+        "same": (0, 1, 2), "left": (1, 2, 0), "right": (2, 0, 1),
+        "flipa": (0, 2, 1), "flipb": (2, 1, 0), "flipc": (1, 0, 2),
+    }
+    names = list(turns)
+    called = {places: name for name, places in turns.items()}
+    step = {
+        (one, other): called[tuple(turns[one][place] for place in turns[other])] for one in names for other in names
+    }
+    backs = [next(other for other in names if step[one, other] == "same") for one in names]
+    return [names, "same", backs, [[[step[one, other]] for other in names] for one in names]]
+
+
+def book_of(table, things, sayings=()):
+    """A book with these things (names, or a text of one-letter names) and sayings (one, other, text of kinds)."""
+    book = Book(table)
+    for name in things:
+        book.thing(name)
+    for one, other, kinds in sayings:
+        book.say(one, other, kinds.split())
+    return book
+
+
+def shown(book):
+    """All that a book stands for but what waits to be undone or done again."""
+    return (book.things(), book.sayings(), book.coming(), len(book), book.table())
+
+
+def any_deed(book, chance):
+    """Some deed that is not refused."""
+    things, numbers = book.things(), [row[0] for row in book.sayings()]
+    deeds = []
+    if len(things) < 6:
+        deeds.append(lambda: book.thing(chance.choice([name for name in "abcdefgh" if name not in things])))
+    if things:
+        deeds.append(lambda: book.drop(chance.choice(things)))
+    if things and len(numbers) < 38:
+        kinds = chance.sample(book.table().kinds(), 2)
+        deeds += [lambda: book.say(chance.choice(things), chance.choice(things), kinds)] * 3
+        deeds.append(lambda: book.say_all([(chance.choice(things), chance.choice(things), kinds)] * 2))
+    if numbers:
+        deeds.append(lambda: book.strike(chance.choice(numbers)))
+    chance.choice(deeds)()

@@ -7,7 +7,11 @@ import pathlib
 import re
 import unittest
 
+import kindweft.book
 import kindweft.built
+import kindweft.drawn
+import kindweft.look
+import kindweft.made
 import kindweft.tables
 import kindweft.texts
 
@@ -184,14 +188,27 @@ class Names(unittest.TestCase):
 
 
 INTERFACE = {
-    kindweft.tables: {"fault": "names same backs steps"},
-    kindweft.texts: {"read_table": "text"},
-    kindweft.built: {"built": "word", "read_off": "word one other"},
+    kindweft.tables: {"fault": "(names, same, backs, steps)"},
+    kindweft.texts: {"read_table": "(text)"},
+    kindweft.built: {"built": "(word)", "read_off": "(word, one, other)"},
+    kindweft.drawn: {"drawn": "(word, things, standing)"},
+    kindweft.made: {
+        "paired": "(one, other, *, names=None)", "turned": "(table)", "renamed": "(table, names)",
+        "coarser": "(table, blocks, names)",
+    },
+    kindweft.look: {"led": "(book, steps)", "bars": "(book, tree)", "fits": "(book, standing)"},
 }
 TABLE = {
-    "__init__": "self names same backs steps", "kinds": "self", "back": "self kind", "step": "self one other",
-    "steps": "self ones others", "backs": "self ones", "ordered": "self kinds", "__len__": "self",
-    "__eq__": "self other", "__repr__": "self", "__str__": "self",
+    "__init__": "(self, names, same, backs, steps)", "kinds": "(self)", "back": "(self, kind)",
+    "step": "(self, one, other)", "steps": "(self, ones, others)", "backs": "(self, ones)",
+    "ordered": "(self, kinds)", "__len__": "(self)", "__eq__": "(self, other)", "__repr__": "(self)",
+    "__str__": "(self)",
+}
+BOOK = {
+    "__init__": "(self, table)", "thing": "(self, name)", "drop": "(self, name)", "say": "(self, one, other, kinds)",
+    "strike": "(self, number)", "say_all": "(self, sayings)", "undo": "(self)", "redo": "(self)", "table": "(self)",
+    "things": "(self)", "sayings": "(self)", "closed": "(self, one, other)", "why": "(self, one, other)",
+    "torn": "(self)", "coming": "(self)", "twin": "(self)", "__len__": "(self)",
 }
 
 
@@ -201,14 +218,16 @@ class Interface(unittest.TestCase):
             for name, arguments in functions.items():
                 function = getattr(module, name)
                 self.assertEqual(function.__module__, module.__name__)
-                self.assertEqual(list(inspect.signature(function).parameters), arguments.split())
+                self.assertEqual(str(inspect.signature(function)), arguments)
 
-    def test_methods_of_table(self):
-        table = kindweft.tables.Table
-        self.assertEqual(table.__module__, "kindweft.tables")
-        for name, arguments in TABLE.items():
-            self.assertIn(name, vars(table))
-            self.assertEqual(list(inspect.signature(vars(table)[name]).parameters), arguments.split())
+    def test_methods(self):
+        for holder, module, methods in (
+            (kindweft.tables.Table, "kindweft.tables", TABLE), (kindweft.book.Book, "kindweft.book", BOOK),
+        ):
+            self.assertEqual(holder.__module__, module)
+            for name, arguments in methods.items():
+                self.assertIn(name, vars(holder))
+                self.assertEqual(str(inspect.signature(vars(holder)[name])), arguments)
 
 
 if __name__ == "__main__":
