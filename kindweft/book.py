@@ -118,8 +118,7 @@ class Book:
 
     def twin(self):
         """A book that stands alike, with the same to undo and redo."""
-        other = Book(self.ground)
-        other.now = self.now
+        other = book_at(self.ground, self.now)
         other.past = list(self.past)
         other.undone = list(self.undone)
         return other
@@ -148,3 +147,10 @@ class Book:
 
     def __len__(self):
         return len(self.now[1])
+
+
+def book_at(table, state):
+    """A book over the table that stands so, with nothing to undo or redo."""
+    book = Book(table)
+    book.now = state
+    return book

@@ -30,7 +30,7 @@ def fits(book, standing):
             return False
         web.leave(web.places[one], web.places[other], table.gathered([row[2]]))
     # Each set has one kind at most now: a step that would change one would empty it.
-    return not web.has_empty() and not web.take_till_still()
+    return not web.close() and not web.has_empty()
 
 
 def pairs_of(book):

@@ -63,15 +63,19 @@ class Web:
 
     def close(self):
         """Closes the web; the steps that changed a set, in order. The last one empties a set of a torn web."""
-        log = [] if self.has_empty() else self.take_till_still()
+        return self.close_behind(pairs_in_order(len(self.sets)))
+
+    def close_behind(self, pairs):
+        """As close, of a web that is closed but for what the sets of these pairs lead to."""
+        log = [] if self.has_empty() else self.take_till_still(pairs)
         if self.has_empty():
             self.sets = [[0 for held in row] for row in self.sets]
         return log
 
-    def take_till_still(self):
-        """Takes steps till none changes a set any more, or one set is empty; those that changed one."""
+    def take_till_still(self, pairs):
+        """Takes what steps the sets of these pairs lead to, till none changes a set or one set is empty; which did."""
         log = []
-        waiting = [(one, other) for other in range(len(self.sets)) for one in range(other)]
+        waiting = list(pairs)
         while waiting:
             one, other = waiting.pop(0)
             for step in steps_over(one, other, len(self.sets)):
@@ -84,6 +88,11 @@ class Web:
         return log
 
 
+def pairs_in_order(size):
+    """Each two of so many things, one ahead of other, in the order in which a standing tells them."""
+    return [(one, other) for one in range(size) for other in range(one + 1, size)]
+
+
 def steps_over(one, other, size):
     """The steps that the set of a pair can change something by; those turned about change the same."""
     thirds = [third for third in range(size) if third not in (one, other)]
@@ -92,13 +101,18 @@ def steps_over(one, other, size):
 
 def web_of(book):
     """The web that a book's sayings alone leave."""
+    return web_by(book, book.sayings())
+
+
+def web_by(book, sayings):
+    """The web of a book's things that these sayings alone leave."""
     table = book.table()
     places = places_by_name(book.things())
     own = table.gathered([table.same])
     every = table.gathered(table.kinds())
     sets = [[own if one == other else every for other in range(len(places))] for one in range(len(places))]
     web = Web(Loom(table), places, sets)
-    for number, first, second, kinds in book.sayings():
+    for number, first, second, kinds in sayings:
         web.leave(places[first], places[second], table.gathered(kinds))
     return web
 

@@ -1,6 +1,8 @@
 """Parts of tables for the tests, as lists that each call makes anew, and books over tables."""
 
 from kindweft.book import Book
+from kindweft.built import built
+from kindweft.errors import NothingBack
 
 LETTERS = "abcdefghijklmnopqrstuvwxyz"
 
@@ -101,3 +103,56 @@ def any_deed(book, chance):
     if numbers:
         deeds.append(lambda: book.strike(chance.choice(numbers)))
     chance.choice(deeds)()
+
+
+def lenient(size):
+    """Kinds that are their own backs, of which each two unlike same let each other kind by."""
+    names = [f"kind{LETTERS[place]}" for place in range(size)]
+    same, others = names[0], names[1:]
+
+    def step(one, other):
+        if same in (one, other):
+            return [other if one == same else one]
+        return list(names) if one == other else list(others)
+
+    return [names, same, list(names), [[step(one, other) for other in names] for one in names]]
+
+
+def loosely_said(table, chance, things, sayings, most):
+    """A book with so many things and sayings, each of one kind up to so many, now and then of a thing and itself."""
+    book = book_of(table, "fbdaec"[:things])
+    kinds = table.kinds()
+    for at in range(sayings if things else 0):
+        one, other = chance.choice(book.things()), chance.choice(book.things())
+        told = chance.sample(kinds, chance.randint(1, min(most, len(kinds))))
+        if one == other and chance.random() < 0.9:
+            told = [table.same] + told
+        book.say(one, other, told)
+    return book
+
+
+def waiting_book():
+    """A book over moments with gaps in its numbers, with deeds to undo and deeds to do again."""
+    book = book_of(built("moments"), "abcd", [
+        ("a", "b", "ahead"), ("b", "c", "ahead same"), ("c", "d", "ahead"), ("d", "a", "behind same")])
+    book.strike(2)
+    book.say("b", "d", ["ahead", "behind"])
+    book.thing("e")
+    book.drop("c")
+    book.undo()
+    book.undo()
+    return book
+
+
+def unwound(book):
+    """All that a book stands for, with all that it can undo and do again."""
+    back, on = book.twin(), book.twin()
+    told = [shown(book)]
+    for twin, turn in ((back, back.undo), (on, on.redo)):
+        try:
+            while True:
+                turn()
+                told.append(shown(twin))
+        except NothingBack:
+            told.append("end")
+    return told

@@ -9,9 +9,13 @@ import unittest
 
 import kindweft.book
 import kindweft.built
+import kindweft.desk
 import kindweft.drawn
+import kindweft.lead
 import kindweft.look
 import kindweft.made
+import kindweft.pages
+import kindweft.search
 import kindweft.tables
 import kindweft.texts
 
@@ -197,6 +201,16 @@ INTERFACE = {
         "coarser": "(table, blocks, names)",
     },
     kindweft.look: {"led": "(book, steps)", "bars": "(book, tree)", "fits": "(book, standing)"},
+    kindweft.search: {
+        "standing": "(book, *, most=3000)", "follows": "(book, one, other, kinds, *, most=3000)",
+        "least": "(book, one, other, *, most=3000)", "count": "(book, *, most=3000)",
+        "nth": "(book, at, *, most=3000)", "lot": "(book, *, most=3000)",
+    },
+    kindweft.lead: {
+        "paired_book": "(one, other, table)", "turned_book": "(book)", "coarser_book": "(book, table, blocks)",
+        "joined": "(one, other)",
+    },
+    kindweft.pages: {"page": "(book)", "read_page": "(text)"},
 }
 TABLE = {
     "__init__": "(self, names, same, backs, steps)", "kinds": "(self)", "back": "(self, kind)",
@@ -210,6 +224,7 @@ BOOK = {
     "things": "(self)", "sayings": "(self)", "closed": "(self, one, other)", "why": "(self, one, other)",
     "torn": "(self)", "coming": "(self)", "twin": "(self)", "__len__": "(self)",
 }
+DESK = {"__init__": "(self, table)", "say": "(self, line)", "book": "(self)"}
 
 
 class Interface(unittest.TestCase):
@@ -223,6 +238,7 @@ class Interface(unittest.TestCase):
     def test_methods(self):
         for holder, module, methods in (
             (kindweft.tables.Table, "kindweft.tables", TABLE), (kindweft.book.Book, "kindweft.book", BOOK),
+            (kindweft.desk.Desk, "kindweft.desk", DESK),
         ):
             self.assertEqual(holder.__module__, module)
             for name, arguments in methods.items():

@@ -47,7 +47,7 @@ def holds(table, kinds, things):
 
 
 def standings(book, chance=None):
-    """Each standing, in order (or in any order where there is chance), thing by thing."""
+    """Each standing, put together thing by thing (kinds in any order where there is chance)."""
     table, things, web = book.table(), book.things(), plain_web(book)
     if not all(web.values()):
         return
@@ -110,3 +110,47 @@ def cases_of(table, things, web, steps, one, other):
             return None
         branches.append((kind, tree))
     return ("cases", steps, one, other, branches)
+
+
+def in_the_books_order(book, told):
+    """Standings by their kinds, the first pair's first, kinds as in the table."""
+    kinds = book.table().kinds()
+    return sorted(told, key=lambda standing: [kinds.index(row[2]) for row in standing])
+
+
+def few_standings(book, most=3000):
+    """All standings in order, or None where there are more than so many."""
+    found = list(itertools.islice(standings(book), most + 1))
+    return in_the_books_order(book, found) if len(found) <= most else None
+
+
+def can_stand(book):
+    return next(standings(book), None) is not None
+
+
+def plain_lot(book):
+    """What lot tells, by leaving sayings out of a twin."""
+    if can_stand(book):
+        return None
+    left = book.twin()
+    for number in [row[0] for row in book.sayings()]:
+        fewer = left.twin()
+        fewer.strike(number)
+        if not can_stand(fewer):
+            left = fewer
+    return [row[0] for row in left.sayings()]
+
+
+def steps_settle(book):
+    """Whether steps alone tell that a book cannot stand, or leave but one kind for each pair."""
+    web = plain_web(book)
+    if all(web.values()):
+        settle(book.table(), book.things(), web)
+    return not all(web.values()) or all(len(held) == 1 for held in web.values())
+
+
+def with_saying(book, one, other, kinds):
+    """A twin with a further saying."""
+    twin = book.twin()
+    twin.say(one, other, kinds)
+    return twin
