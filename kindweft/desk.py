@@ -67,8 +67,7 @@ def tell_count(book, words):
 
 
 def tell_lot(book, words):
-    numbers = lot(book)
-    return listing([] if numbers is None else numbers)
+    return listing(lot(book) or [])
 
 
 def tell_page(book, words):
@@ -98,8 +97,9 @@ def is_form(words):
     if "" in words or words[0] not in WORDS_BEHIND:
         return False
     behind = len(words) - 1
-    wanted = WORDS_BEHIND[words[0]]
-    if behind < wanted or behind > wanted and words[0] not in ENDS_IN_KINDS:
+    if words[0] in ENDS_IN_KINDS:
+        return behind >= WORDS_BEHIND[words[0]]
+    if behind != WORDS_BEHIND[words[0]]:
         return False
     return words[0] != "strike" or is_number(words[1])
 

@@ -18,9 +18,8 @@ def follows(book, one, other, kinds, *, most=MOST):
     table = book.table()
     told = table.ordered(kinds)
     others = [kind for kind in table.kinds() if kind not in told]
-    if not others:
-        return ("follows", ("shut", []))
     web = web_of(book)
+    # Where there are no others this leaves an empty set, which no step is needed for.
     web.leave(first, second, table.gathered(others))
     word, found = Search(book, most).first(web)
     return ("open" if word == "stands" else "follows", found)

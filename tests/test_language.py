@@ -149,6 +149,18 @@ class Statements(unittest.TestCase):
                 if isinstance(node.op, ast.Pow):
                     self.assertIsInstance(node.right, ast.Constant, name)
 
+    def test_own_errors_by_their_names(self):
+        known = trees()
+        own = [node.name for node in known["errors"].body if isinstance(node, ast.ClassDef)]
+        for name, tree in known.items():
+            for node in nodes(tree, ast.Raise):
+                self.assertIsInstance(node.exc, ast.Call, name)
+                self.assertIn(node.exc.func.id, own, name)
+                self.assertTrue(node.cause is None or node.cause.value is None, name)
+            for node in nodes(tree, ast.ExceptHandler):
+                caught = node.type.elts if isinstance(node.type, ast.Tuple) else [node.type]
+                self.assertEqual([error.id for error in caught if error.id not in own], [], name)
+
     def test_any_and_its_like_take_lists(self):
         # Own calls may be iterated lists; what counts is that nothing is computed while it is taken.
         for name, tree in trees().items():
