@@ -51,7 +51,7 @@ def tell_stands(book, words):
     word, found = standing(book)
     if word == "barred":
         return "no"
-    return f"yes {listing([row[2] for row in found])}"
+    return "yes " + listing([row[2] for row in found])
 
 
 def tell_follows(book, words):
